@@ -54,12 +54,9 @@ func tell(cap int64) *told {
 	return &told{most: cap}
 }
 
-// until answers now, of which what is below 0 counts as 0, and Hold, held at 2^63 - 1, as clock adds.
+// until answers now and Hold, held at 2^63 - 1.
 func until(now int64) *big.Int {
-	n := big.NewInt(0)
-	if now > 0 {
-		n.SetInt64(now)
-	}
+	n := big.NewInt(now)
 	n.Add(n, big.NewInt(hold))
 	if n.Cmp(big.NewInt(top)) > 0 {
 		n.SetInt64(top)
@@ -298,10 +295,11 @@ func TestTimes(t *testing.T) {
 	for _, c := range []struct{ now, until int64 }{
 		{0, hold}, {1, hold + 1}, {hold - 1, 2*hold - 1}, {hold, 2 * hold}, {1 << 50, 1<<50 + hold}, {1<<53 + 1, 1<<53 + 1 + hold},
 		{top - hold - 1, top - 1}, {top - hold, top}, {top - hold + 1, top}, {top - 1, top}, {top, top}, // held at 2^63 - 1
-		{-1, hold}, {-hold, hold}, {-hold - 1, hold}, {bottom + hold, hold}, {bottom + 1, hold}, {bottom, hold}, // what is below 0 counts as 0, as clock adds
+		{-1, hold - 1}, {1 - hold, 1}, {-hold, 0}, {-hold - 1, -1}, {-2 * hold, -hold}, {-1 << 50, hold - 1<<50}, // a time below 0 is one as the others are
+		{bottom + hold, bottom + 2*hold}, {bottom + 1, bottom + hold + 1}, {bottom, bottom + hold},
 	} {
 		l := limit.New(100)
-		for _, first := range []int64{bottom, -1, 0, c.until - hold, c.until - 1} { // just ahead of it, last
+		for _, first := range []int64{bottom, c.until - hold, c.until - 2, c.until - 1} { // just ahead of it, last
 			l.Tmmbr(one(3, 80, 1), c.now)
 			if n := l.Tick(first); n != 0 {
 				t.Errorf("P14.1: told at %d: Tick(%d): %d", c.now, first, n)
@@ -344,7 +342,7 @@ func TestTmmbrAgain(t *testing.T) {
 		what                string
 		first, again, until int64
 	}{
-		{"later", 100, 300, 300 + hold}, {"earlier", 300, 100, 100 + hold}, {"at the same time", 100, 100, 100 + hold}, {"at the end of time", 5, top, top}, {"from the end of time", top, 5, 5 + hold}, {"below 0", 5, -5, hold},
+		{"later", 100, 300, 300 + hold}, {"earlier", 300, 100, 100 + hold}, {"at the same time", 100, 100, 100 + hold}, {"at the end of time", 5, top, top}, {"from the end of time", top, 5, 5 + hold}, {"from above 0 to below it", 5, -5, hold - 5}, {"below 0, later", -300, -100, hold - 100}, {"below 0, earlier", -100, -300, hold - 300}, {"so that it ends below 0", 5, -hold - 5, -5}, {"from the first time", bottom, 5, 5 + hold}, {"to the first time", 5, bottom, bottom + hold},
 	} {
 		l := limit.New(100)
 		l.Tmmbr(one(1, 720, 9), top)
@@ -540,6 +538,9 @@ func TestTick(t *testing.T) {
 		{"in the other order", []int64{6, 5, 4, 3, 2, 1}, []int64{hold + 3, hold + 100}, []int{3, 3}},
 		{"at an earlier time than the last one", []int64{5, 10}, []int64{hold + 7, 0, bottom, hold + 9, hold + 7, hold + 10}, []int{1, 0, 0, 0, 0, 1}},
 		{"at times below 0", []int64{0, 5}, []int64{-1, -hold, bottom}, []int{0, 0, 0}},
+		{"of some told below 0", []int64{-2 * hold, -hold, -1, 0}, []int64{-hold - 1, -hold, -1, 0, hold - 2, hold - 1, hold}, []int{0, 1, 0, 1, 0, 1, 1}},
+		{"of some told below 0, behind their times", []int64{-2 * hold, -hold, -5 * hold, 1}, []int64{-hold / 2, 1}, []int{2, 1}},
+		{"at the first times", []int64{bottom, bottom + 1, -1}, []int64{bottom, bottom + hold - 1, bottom + hold, bottom + hold + 1}, []int{0, 0, 1, 1}},
 		{"at the end of time", []int64{top, 0, top - hold}, []int64{top - 1, top, top}, []int{1, 2, 0}},
 	} {
 		p := pair(t, 1000)
@@ -811,6 +812,9 @@ func TestRowsOfCalls(t *testing.T) {
 	for n := range 1500 {
 		p := pair(t, r.Int63n(1500))
 		now := r.Int63n(1000)
+		if n%2 == 0 {
+			now = -r.Int63n(12 * hold) // it goes on from below 0
+		}
 		for range 60 {
 			now += r.Int63n(hold / 5)
 			c := draw(r, now)
